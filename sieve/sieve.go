@@ -1,0 +1,31 @@
+// Package sieve: policies over records, and the small machine that they are compiled for: see DOC.md.
+package sieve
+
+import (
+	"sieve/api"
+	"sieve/rules"
+)
+
+// Check tells whether a text is a policy (P3).
+func Check(policy string) (api.Errno, int) { return rules.Check(policy) }
+
+// Judge tells the verdict of a policy on a record (P4).
+func Judge(policy string, record string) (int, api.Errno) { return rules.Judge(policy, record) }
+
+// Encode writes instructions as bytes (P5).
+func Encode(list []api.Instr) (string, api.Errno) { return "", api.OK }
+
+// Decode reads instructions (P5).
+func Decode(code string) ([]api.Instr, api.Errno) { return nil, api.OK }
+
+// Sound tells whether a code is sound (P6).
+func Sound(code string) (api.Errno, int) { return api.OK, 0 }
+
+// Run runs a code on a record (P7).
+func Run(code string, record string) (int, int, api.Errno) { return 0, 0, api.OK }
+
+// Improve improves a code by passes (P8).
+func Improve(code string, passes string) (string, api.Errno) { return "", api.OK }
+
+// Compile makes a code out of a policy (P9).
+func Compile(policy string, passes string) (string, api.Errno) { return "", api.OK }
