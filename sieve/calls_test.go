@@ -2,6 +2,7 @@ package sieve_test
 
 import (
 	"math/rand"
+	"slices"
 	"strings"
 	"testing"
 
@@ -23,7 +24,7 @@ func texts(r *rand.Rand) []string {
 	return list
 }
 
-func TestErrorsComeWithNothingElse(t *testing.T) {
+func TestErrorsOfPoliciesComeWithNothingElse(t *testing.T) {
 	r := rand.New(rand.NewSource(1))
 	for _, text := range texts(r) {
 		e, at := sieve.Check(text)
@@ -43,28 +44,78 @@ func TestErrorsComeWithNothingElse(t *testing.T) {
 	}
 }
 
+// codes are codes and texts that are none, of many sorts and lengths.
+func codes(r *rand.Rand) []string {
+	list := []string{"", "\x00", "\x0f\x00\x00\x00", "\x10\x00\x00\x00\x00", strings.Repeat("\xff", 5120), strings.Repeat("\x10\x00\x00\x00\x00", 1024), strings.Repeat("\x10\x00\x00\x00\x00", 1025), strings.Repeat("\x0a\x00\x00\x00\x00", 1024)}
+	for i := 0; i < 300; i++ {
+		code := bytesOf(anyCode(r, 1+r.Intn(60))...)
+		at := r.Intn(len(code))
+		list = append(list, code, code[:at], code[at:], code+code[:at], code[:at]+string([]byte{byte(r.Intn(256))})+code[at+1:])
+		b := make([]byte, r.Intn(200))
+		r.Read(b)
+		list = append(list, string(b))
+	}
+	return list
+}
+
+func TestErrorsOfCodesComeWithNothingElse(t *testing.T) {
+	r := rand.New(rand.NewSource(8))
+	for _, code := range append(codes(r), texts(r)...) {
+		e, at := sieve.Sound(code)
+		wantE, wantAt := faultOf(code)
+		if e != wantE || at != wantAt {
+			t.Errorf("P1: Sound(%.60q) = %d, %d, want %d, %d", code, e, at, wantE, wantAt)
+		}
+		for _, record := range []string{"", exampleRecord[1:], exampleRecord, exampleRecord + "\x00"} {
+			want := e
+			if e == api.OK && len(record) != 20 {
+				want = api.ErrRecord
+			}
+			v, steps, got := sieve.Run(code, record)
+			if got != want || got != api.OK && (v != 0 || steps != 0) || v < 0 || v > 65535 || steps > len(code)/5 {
+				t.Errorf("P1: Run(%.60q, %q) = %d, %d, %d, want error %d", code, record, v, steps, got, want)
+			}
+		}
+		list, got := sieve.Decode(code)
+		if got != api.OK && len(list) != 0 {
+			t.Errorf("P1: Decode(%.60q) = %d instructions, %d", code, len(list), got)
+		}
+		list = append(list, in(r.Intn(300), 0, 0, 0), in(0, 0, 0, r.Intn(100000)))
+		if again, got := sieve.Encode(list); got != api.OK && again != "" {
+			t.Errorf("P1: Encode(%d instructions) = %.60q, %d", len(list), again, got)
+		}
+	}
+}
+
 // Asked again, in another order and with other calls between, the calls answer
 // the same: nothing is left over from a call before.
 func TestAnswersHangOnArgumentsAlone(t *testing.T) {
 	type answer struct {
-		e, judged   api.Errno
-		at, verdict int
+		errnos  [6]api.Errno
+		numbers [5]int
+		list    []api.Instr
+		code    string
 	}
 	ask := func(text string) answer {
 		var a answer
-		a.e, a.at = sieve.Check(text)
-		a.verdict, a.judged = sieve.Judge(text, exampleRecord)
+		a.errnos[0], a.numbers[0] = sieve.Check(text)
+		a.numbers[1], a.errnos[1] = sieve.Judge(text, exampleRecord)
+		a.errnos[2], a.numbers[2] = sieve.Sound(text)
+		a.numbers[3], a.numbers[4], a.errnos[3] = sieve.Run(text, exampleRecord)
+		a.list, a.errnos[4] = sieve.Decode(text)
+		a.code, a.errnos[5] = sieve.Encode(a.list)
 		return a
 	}
 	r := rand.New(rand.NewSource(2))
-	list := texts(r)
+	list := append(texts(r), codes(r)...)
 	first := make([]answer, len(list))
 	for i, text := range list {
 		first[i] = ask(text)
 	}
 	for _, i := range r.Perm(len(list)) {
-		if again := ask(list[i]); again != first[i] {
-			t.Errorf("P2: at %.60q first %+v, then %+v", list[i], first[i], again)
+		again, was := ask(list[i]), first[i]
+		if again.errnos != was.errnos || again.numbers != was.numbers || !slices.Equal(again.list, was.list) || again.code != was.code {
+			t.Errorf("P2: at %.60q first %+v, then %+v", list[i], was, again)
 		}
 	}
 }

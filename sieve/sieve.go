@@ -3,6 +3,7 @@ package sieve
 
 import (
 	"sieve/api"
+	"sieve/machine"
 	"sieve/rules"
 )
 
@@ -13,16 +14,16 @@ func Check(policy string) (api.Errno, int) { return rules.Check(policy) }
 func Judge(policy string, record string) (int, api.Errno) { return rules.Judge(policy, record) }
 
 // Encode writes instructions as bytes (P5).
-func Encode(list []api.Instr) (string, api.Errno) { return "", api.OK }
+func Encode(list []api.Instr) (string, api.Errno) { return machine.Encode(list) }
 
 // Decode reads instructions (P5).
-func Decode(code string) ([]api.Instr, api.Errno) { return nil, api.OK }
+func Decode(code string) ([]api.Instr, api.Errno) { return machine.Decode(code) }
 
 // Sound tells whether a code is sound (P6).
-func Sound(code string) (api.Errno, int) { return api.OK, 0 }
+func Sound(code string) (api.Errno, int) { return machine.Sound(code) }
 
 // Run runs a code on a record (P7).
-func Run(code string, record string) (int, int, api.Errno) { return 0, 0, api.OK }
+func Run(code string, record string) (int, int, api.Errno) { return machine.Run(code, record) }
 
 // Improve improves a code by passes (P8).
 func Improve(code string, passes string) (string, api.Errno) { return "", api.OK }
