@@ -33,7 +33,7 @@ func run(list []api.Instr, record string) (int, int) {
 			return s.a, steps
 		}
 		s.do(x, record)
-		at += 1 + hop(x, s.a)
+		at += 1 + Hop(x, s.a)
 	}
 	return 0, steps
 }
@@ -60,13 +60,13 @@ func (s *state) do(x api.Instr, record string) {
 			s.cells[x.K] = s.a
 		}
 	default:
-		s.a = reckon(x.Op, s.a, x.K)
+		s.a = Reckon(x.Op, s.a, x.K)
 	}
 }
 
-// reckon tells what a becomes by an operation that reckons with it and k. Any
+// Reckon tells what a becomes by an operation that reckons with it and k. Any
 // other operation leaves it.
-func reckon(op int, a int, k int) int {
+func Reckon(op int, a int, k int) int {
 	switch op {
 	case api.And:
 		return a & k
@@ -86,12 +86,13 @@ func reckon(op int, a int, k int) int {
 	return a
 }
 
-// hop tells how many instructions the run leaves out behind this one.
-func hop(x api.Instr, a int) int {
+// Hop tells how many instructions the run leaves out behind this one, if the
+// accumulator is a.
+func Hop(x api.Instr, a int) int {
 	if x.Op == api.Go {
 		return x.K
 	}
-	if !isTest(x.Op) {
+	if !IsTest(x.Op) {
 		return 0
 	}
 	if holds(x.Op, a, x.K) {

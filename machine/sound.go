@@ -26,7 +26,7 @@ func Read(code string) ([]api.Instr, api.Errno, int) {
 		}
 	}
 	last := len(list) - 1
-	if !isEnd(list[last].Op) {
+	if !IsEnd(list[last].Op) {
 		return nil, api.ErrEnd, last
 	}
 	return list, api.OK, 0
@@ -50,19 +50,19 @@ func fault(x api.Instr, behind int) api.Errno {
 	return api.OK
 }
 
-// isTest tells whether an operation is a test.
-func isTest(op int) bool {
+// IsTest tells whether an operation is a test.
+func IsTest(op int) bool {
 	return op >= api.Equal && op <= api.Some
 }
 
-// isEnd tells whether a run ends with an operation.
-func isEnd(op int) bool {
+// IsEnd tells whether a run ends with an operation.
+func IsEnd(op int) bool {
 	return op == api.Return || op == api.Answer
 }
 
 // unusedAreZero tells whether the fields that the operation does not use are 0.
 func unusedAreZero(x api.Instr) bool {
-	if isTest(x.Op) {
+	if IsTest(x.Op) {
 		return true
 	}
 	if x.Op == api.Answer && x.K != 0 {
@@ -92,7 +92,7 @@ func leadsOn(x api.Instr, behind int) bool {
 	if x.Op == api.Go {
 		return x.K < behind
 	}
-	if isTest(x.Op) {
+	if IsTest(x.Op) {
 		return x.T < behind && x.F < behind
 	}
 	return true

@@ -76,6 +76,16 @@ func TestErrorsOfCodesComeWithNothingElse(t *testing.T) {
 				t.Errorf("P1: Run(%.60q, %q) = %d, %d, %d, want error %d", code, record, v, steps, got, want)
 			}
 		}
+		for _, passes := range []string{"", "x", "djlk", "djlkdjlkdjlk", "djlkdjlkdjlkd", strings.Repeat("\xff", 1000)} {
+			want := e
+			if e == api.OK && len(passes) > 12 {
+				want = api.ErrPass
+			}
+			better, got := sieve.Improve(code, passes)
+			if got != want || (got == api.OK) != (better != "") {
+				t.Errorf("P1: Improve(%.60q, %.20q) = %.60q, %d, want error %d", code, passes, better, got, want)
+			}
+		}
 		list, got := sieve.Decode(code)
 		if got != api.OK && len(list) != 0 {
 			t.Errorf("P1: Decode(%.60q) = %d instructions, %d", code, len(list), got)
@@ -91,10 +101,11 @@ func TestErrorsOfCodesComeWithNothingElse(t *testing.T) {
 // the same: nothing is left over from a call before.
 func TestAnswersHangOnArgumentsAlone(t *testing.T) {
 	type answer struct {
-		errnos  [6]api.Errno
+		errnos  [7]api.Errno
 		numbers [5]int
 		list    []api.Instr
 		code    string
+		better  string
 	}
 	ask := func(text string) answer {
 		var a answer
@@ -104,6 +115,7 @@ func TestAnswersHangOnArgumentsAlone(t *testing.T) {
 		a.numbers[3], a.numbers[4], a.errnos[3] = sieve.Run(text, exampleRecord)
 		a.list, a.errnos[4] = sieve.Decode(text)
 		a.code, a.errnos[5] = sieve.Encode(a.list)
+		a.better, a.errnos[6] = sieve.Improve(text, "kjdlkjd")
 		return a
 	}
 	r := rand.New(rand.NewSource(2))
@@ -114,7 +126,7 @@ func TestAnswersHangOnArgumentsAlone(t *testing.T) {
 	}
 	for _, i := range r.Perm(len(list)) {
 		again, was := ask(list[i]), first[i]
-		if again.errnos != was.errnos || again.numbers != was.numbers || !slices.Equal(again.list, was.list) || again.code != was.code {
+		if again.errnos != was.errnos || again.numbers != was.numbers || !slices.Equal(again.list, was.list) || again.code != was.code || again.better != was.better {
 			t.Errorf("P2: at %.60q first %+v, then %+v", list[i], was, again)
 		}
 	}

@@ -3,6 +3,7 @@ package sieve
 
 import (
 	"sieve/api"
+	"sieve/improve"
 	"sieve/machine"
 	"sieve/rules"
 )
@@ -26,7 +27,7 @@ func Sound(code string) (api.Errno, int) { return machine.Sound(code) }
 func Run(code string, record string) (int, int, api.Errno) { return machine.Run(code, record) }
 
 // Improve improves a code by passes (P8).
-func Improve(code string, passes string) (string, api.Errno) { return "", api.OK }
+func Improve(code string, passes string) (string, api.Errno) { return improve.Improve(code, passes) }
 
 // Compile makes a code out of a policy (P9).
 func Compile(policy string, passes string) (string, api.Errno) { return "", api.OK }
