@@ -70,3 +70,13 @@ func Check(text string) (api.Errno, int) {
 	_, e, at := Parse(text)
 	return e, at
 }
+
+// Behind tells the terms behind the condition that the terms begin with.
+func Behind(terms []Term) []Term {
+	missing := 1
+	for missing > 0 && len(terms) > 0 {
+		missing = missing - 1 + parts(terms[0].Kind)
+		terms = terms[1:]
+	}
+	return terms
+}

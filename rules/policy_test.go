@@ -54,3 +54,23 @@ func TestHoldsAtTermsThatEndTooEarly(t *testing.T) {
 		t.Errorf("half an And holds")
 	}
 }
+
+func TestBehind(t *testing.T) {
+	p, e, _ := Parse("?&|!Tn=0001!!&Th=0002:0001.0002")
+	if e != api.OK || len(p.Rules) != 1 {
+		t.Fatalf("%+v, %d", p, e)
+	}
+	terms := p.Rules[0].Terms
+	for i, want := range []int{10, 5, 4, 4, 5, 10, 10, 10, 9, 10} {
+		if got := len(terms) - len(Behind(terms[i:])); got != want {
+			t.Errorf("behind the condition at term %d comes term %d, want %d", i, got, want)
+		}
+	}
+	// Terms that end too early come from no text, but even they must not panic.
+	if got := Behind([]Term{{Kind: And}, {Kind: True}}); len(got) != 0 {
+		t.Errorf("behind half an And comes %+v", got)
+	}
+	if got := Behind(nil); len(got) != 0 {
+		t.Errorf("behind no terms comes %+v", got)
+	}
+}

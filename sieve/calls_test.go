@@ -41,6 +41,16 @@ func TestErrorsOfPoliciesComeWithNothingElse(t *testing.T) {
 				t.Errorf("P1: Judge(%.60q, %q) = %d, %d, want error %d", text, record, v, got, want)
 			}
 		}
+		for _, passes := range []string{"", "x", "djlk", "djlkdjlkdjlk", "djlkdjlkdjlkd", strings.Repeat("\xff", 1000)} {
+			want := e
+			if e == api.OK && len(passes) > 12 {
+				want = api.ErrPass
+			}
+			code, got := sieve.Compile(text, passes)
+			if got != want || (got == api.OK) != (code != "") {
+				t.Errorf("P1: Compile(%.60q, %.20q) = %.60q, %d, want error %d", text, passes, code, got, want)
+			}
+		}
 	}
 }
 
@@ -101,11 +111,10 @@ func TestErrorsOfCodesComeWithNothingElse(t *testing.T) {
 // the same: nothing is left over from a call before.
 func TestAnswersHangOnArgumentsAlone(t *testing.T) {
 	type answer struct {
-		errnos  [7]api.Errno
+		errnos  [8]api.Errno
 		numbers [5]int
 		list    []api.Instr
-		code    string
-		better  string
+		codes   [3]string
 	}
 	ask := func(text string) answer {
 		var a answer
@@ -114,8 +123,9 @@ func TestAnswersHangOnArgumentsAlone(t *testing.T) {
 		a.errnos[2], a.numbers[2] = sieve.Sound(text)
 		a.numbers[3], a.numbers[4], a.errnos[3] = sieve.Run(text, exampleRecord)
 		a.list, a.errnos[4] = sieve.Decode(text)
-		a.code, a.errnos[5] = sieve.Encode(a.list)
-		a.better, a.errnos[6] = sieve.Improve(text, "kjdlkjd")
+		a.codes[0], a.errnos[5] = sieve.Encode(a.list)
+		a.codes[1], a.errnos[6] = sieve.Improve(text, "kjdlkjd")
+		a.codes[2], a.errnos[7] = sieve.Compile(text, "kjdlkjd")
 		return a
 	}
 	r := rand.New(rand.NewSource(2))
@@ -126,7 +136,7 @@ func TestAnswersHangOnArgumentsAlone(t *testing.T) {
 	}
 	for _, i := range r.Perm(len(list)) {
 		again, was := ask(list[i]), first[i]
-		if again.errnos != was.errnos || again.numbers != was.numbers || !slices.Equal(again.list, was.list) || again.code != was.code || again.better != was.better {
+		if again.errnos != was.errnos || again.numbers != was.numbers || !slices.Equal(again.list, was.list) || again.codes != was.codes {
 			t.Errorf("P2: at %.60q first %+v, then %+v", list[i], was, again)
 		}
 	}

@@ -81,36 +81,64 @@ func field(record string, begin, end int) uint64 {
 	return v
 }
 
-// leaf makes a comparison. Its number lies next to one of record's, so that
-// the relations are asked at their edges.
-func leaf(r *rand.Rand, record string) tree {
-	name, begin, end, top := "n", 0, 2, uint64(0xffff)
-	switch i := r.Intn(6); i {
-	case 0:
-		name, begin, end = "h", 2, 4
-	case 1, 2, 3, 4:
-		name, begin, end, top = fmt.Sprintf("a%d", i-1), 4*i, 4*i+4, 0xffffffff
-	}
-	digits := 2 * (end - begin)
-	if top > 0xffff && r.Intn(2) == 0 {
-		mask := uint64(r.Uint32())
-		want := field(record, begin, end) & mask
-		if r.Intn(3) == 0 {
-			want ^= 1 << r.Intn(32)
-		}
-		return tree{fmt.Sprintf("%s&%08x=%08x", name, mask, want), func(s string) bool {
-			return field(s, begin, end)&mask == want
-		}}
-	}
-	want := (field(record, begin, end) + uint64(r.Intn(3)) - 1) & top
-	if r.Intn(6) == 0 {
-		want = uint64(r.Intn(2)) * top
-	}
-	relation := "=<>"[r.Intn(3)]
-	return tree{fmt.Sprintf("%s%c%0*x", name, relation, digits, want), func(s string) bool {
+// fields: by name, the bytes of a record from where to where.
+var fields = map[string][2]int{"n": {0, 2}, "h": {2, 4}, "a0": {4, 8}, "a1": {8, 12}, "a2": {12, 16}, "a3": {16, 20}}
+
+// The conditions, one function for each.
+
+func always() tree { return tree{"T", func(string) bool { return true }} }
+
+func not(c tree) tree {
+	return tree{"!" + c.text, func(s string) bool { return !c.holds(s) }}
+}
+
+func both(c, d tree) tree {
+	return tree{"&" + c.text + d.text, func(s string) bool { return c.holds(s) && d.holds(s) }}
+}
+
+func either(c, d tree) tree {
+	return tree{"|" + c.text + d.text, func(s string) bool { return c.holds(s) || d.holds(s) }}
+}
+
+func compares(name string, relation byte, want uint64) tree {
+	begin, end := fields[name][0], fields[name][1]
+	return tree{fmt.Sprintf("%s%c%0*x", name, relation, 2*(end-begin), want), func(s string) bool {
 		got := field(s, begin, end)
 		return relation == '=' && got == want || relation == '<' && got < want || relation == '>' && got > want
 	}}
+}
+
+func masks(name string, mask, want uint64) tree {
+	begin, end := fields[name][0], fields[name][1]
+	return tree{fmt.Sprintf("%s&%08x=%08x", name, mask, want), func(s string) bool {
+		return field(s, begin, end)&mask == want
+	}}
+}
+
+// leaf makes a comparison. Its number lies next to one of record's, so that
+// the relations are asked at their edges.
+func leaf(r *rand.Rand, record string) tree {
+	name, top := "n", uint64(0xffff)
+	switch i := r.Intn(6); i {
+	case 0:
+		name = "h"
+	case 1, 2, 3, 4:
+		name, top = fmt.Sprintf("a%d", i-1), 0xffffffff
+	}
+	value := field(record, fields[name][0], fields[name][1])
+	if top > 0xffff && r.Intn(2) == 0 {
+		mask := uint64(r.Uint32())
+		want := value & mask
+		if r.Intn(3) == 0 {
+			want ^= 1 << r.Intn(32)
+		}
+		return masks(name, mask, want)
+	}
+	want := (value + uint64(r.Intn(3)) - 1) & top
+	if r.Intn(6) == 0 {
+		want = uint64(r.Intn(2)) * top
+	}
+	return compares(name, "=<>"[r.Intn(3)], want)
 }
 
 // branch makes a condition of at most so many levels.
@@ -120,17 +148,17 @@ func branch(r *rand.Rand, record string, levels int) tree {
 		return leaf(r, record)
 	}
 	if kind == 0 {
-		return tree{"T", func(string) bool { return true }}
+		return always()
 	}
 	c := branch(r, record, levels-1)
 	if kind == 1 {
-		return tree{"!" + c.text, func(s string) bool { return !c.holds(s) }}
+		return not(c)
 	}
 	d := branch(r, record, levels-1)
 	if kind == 2 {
-		return tree{"|" + c.text + d.text, func(s string) bool { return c.holds(s) || d.holds(s) }}
+		return either(c, d)
 	}
-	return tree{"&" + c.text + d.text, func(s string) bool { return c.holds(s) && d.holds(s) }}
+	return both(c, d)
 }
 
 // anyRecord makes a record; often its bytes are 0 or 255.
@@ -147,29 +175,39 @@ func anyRecord(r *rand.Rand) string {
 	return string(b)
 }
 
-// anyPolicy makes a policy of at most 600 bytes, and tells its verdicts.
-func anyPolicy(r *rand.Rand, record string) (string, func(record string) int) {
-	var trees []tree
-	var verdicts []int
+// judged is a rule: its condition and its verdict.
+type judged struct {
+	when    tree
+	verdict int
+}
+
+// policyOf makes a policy of rules and a default, and tells its verdicts.
+func policyOf(other int, rules ...judged) (string, func(record string) int) {
 	text := ""
-	for n := r.Intn(6); n > 0; n-- {
-		c := branch(r, record, 1+r.Intn(5))
-		v := r.Intn(65536)
-		rule := fmt.Sprintf("?%s:%04x", c.text, v)
-		if len(text)+len(rule) > 595 {
-			break
-		}
-		text += rule
-		trees = append(trees, c)
-		verdicts = append(verdicts, v)
+	for _, rule := range rules {
+		text += fmt.Sprintf("?%s:%04x", rule.when.text, rule.verdict)
 	}
-	other := r.Intn(65536)
 	return text + fmt.Sprintf(".%04x", other), func(s string) int {
-		for i, c := range trees {
-			if c.holds(s) {
-				return verdicts[i]
+		for _, rule := range rules {
+			if rule.when.holds(s) {
+				return rule.verdict
 			}
 		}
 		return other
 	}
+}
+
+// anyPolicy makes a policy of at most 600 bytes, and tells its verdicts.
+func anyPolicy(r *rand.Rand, record string) (string, func(record string) int) {
+	var rules []judged
+	size := 5
+	for n := r.Intn(6); n > 0; n-- {
+		rule := judged{branch(r, record, 1+r.Intn(5)), r.Intn(65536)}
+		size += 6 + len(rule.when.text)
+		if size > 600 {
+			break
+		}
+		rules = append(rules, rule)
+	}
+	return policyOf(r.Intn(65536), rules...)
 }

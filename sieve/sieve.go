@@ -3,6 +3,7 @@ package sieve
 
 import (
 	"sieve/api"
+	"sieve/compile"
 	"sieve/improve"
 	"sieve/machine"
 	"sieve/rules"
@@ -30,4 +31,6 @@ func Run(code string, record string) (int, int, api.Errno) { return machine.Run(
 func Improve(code string, passes string) (string, api.Errno) { return improve.Improve(code, passes) }
 
 // Compile makes a code out of a policy (P9).
-func Compile(policy string, passes string) (string, api.Errno) { return "", api.OK }
+func Compile(policy string, passes string) (string, api.Errno) {
+	return compile.Compile(policy, passes)
+}
